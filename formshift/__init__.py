@@ -1,0 +1,1 @@
+"""Formshift: books carried along maps of forms."""
