@@ -11,13 +11,11 @@ def is_book(form, book):
         return False
     if not all([0 <= height <= MOST_ROWS for height in rows]):
         return False
-    return all([is_step(rows, arrow, step) for arrow, step in zip(arrows, steps)])
+    return all([tells_rows(step, rows[arrow[0]], rows[arrow[1]]) for arrow, step in zip(arrows, steps)])
 
 
-def is_step(rows, arrow, step):
-    if len(step) != rows[arrow[0]]:
-        return False
-    return all([0 <= row < rows[arrow[1]] for row in step])
+def tells_rows(told, length, height):
+    return len(told) == length and all([0 <= row < height for row in told])
 
 
 def went(book, path, row):

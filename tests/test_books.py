@@ -1,11 +1,11 @@
 """Points 1, 4 and 5: what a book is, how one goes along a path, and books beside one another."""
 
 import copy
-import inspect
 import itertools
 import unittest
 
 from formshift.books import beside, is_book, went
+from helping import Asking, changed, names_of_arguments
 
 ONE_KIND = (1, ())
 NO_ARROW = (3, ())
@@ -21,26 +21,13 @@ TURNED_BOOK = ((2, 3, 4), ((3, 0, 2), (1, 3), (2, 0)))
 BOOKS = ((TWINS, TWINS_BOOK), (CHAIN, CHAIN_BOOK), (TURNED, TURNED_BOOK))
 
 
-def changed(whole, place, part):
-    return whole[:place] + (part,) + whole[place + 1:]
-
-
 def with_step(book, number, step):
     return (book[0], changed(book[1], number, step))
 
 
-def only_whole_numbers_in_tuples(value):
-    if type(value) is tuple:
-        return all(only_whole_numbers_in_tuples(part) for part in value)
-    return type(value) is int
-
-
-class IsBook(unittest.TestCase):
+class IsBook(Asking):
     def check(self, form, book, told):
-        with self.subTest(form=form, book=book):
-            before = copy.deepcopy((form, book))
-            self.assertIs(is_book(form, book), told)
-            self.assertEqual((form, book), before)
+        self.ask_whether(told, is_book, form, book)
 
     def test_ordinary_books(self):
         for form, book in BOOKS:
@@ -168,15 +155,10 @@ class Went(unittest.TestCase):
         self.assertEqual(path, (0, 1, 2))
 
 
-class Beside(unittest.TestCase):
+class Beside(Asking):
     def check(self, form, one, other, told):
-        with self.subTest(form=form, one=one, other=other):
-            before = copy.deepcopy((form, one, other))
-            both = beside(form, one, other)
-            self.assertEqual(both, told)
-            self.assertTrue(only_whole_numbers_in_tuples(both))
-            self.assertTrue(is_book(form, both))
-            self.assertEqual((form, one, other), before)
+        self.ask(told, beside, form, one, other)
+        self.assertTrue(is_book(form, told))
 
     def test_ordinary_books(self):
         one = ((2, 1), ((0, 0),))
@@ -234,7 +216,7 @@ class Interface(unittest.TestCase):
     def test_names_of_the_arguments(self):
         told = ((is_book, ["form", "book"]), (went, ["book", "path", "row"]), (beside, ["form", "one", "other"]))
         for asked, names in told:
-            self.assertEqual(list(inspect.signature(asked).parameters), names)
+            self.assertEqual(names_of_arguments(asked), names)
 
 
 if __name__ == "__main__":

@@ -1,11 +1,11 @@
 """Points 1 to 3: what a form is, what a path is, and the order of paths."""
 
 import copy
-import inspect
 import itertools
 import unittest
 
 from formshift.forms import end_of, is_form, paths
+from helping import Asking, all_paths, names_of_arguments
 
 ONE_KIND = (1, ())
 NO_ARROW = (4, ())
@@ -18,29 +18,9 @@ BEYOND = (6, ((4, 5), (0, 1), (1, 2), (2, 3), (3, 4), (0, 5), (1, 4), (4, 5)))
 FORMS = (ONE_KIND, NO_ARROW, CHAIN, TWINS, MIXED, FULL, BEYOND)
 
 
-def chained(form, kind, other, path):
-    """Whether path is one from kind to other, arrow by arrow as point 3 tells."""
-    for arrow in path:
-        start, end = form[1][arrow]
-        if start != kind:
-            return False
-        kind = end
-    return kind == other
-
-
-def all_paths(form, kind, other):
-    """Every tuple of arrows tried, and the order of point 3 by sorting."""
-    numbers = range(len(form[1]))
-    tried = [path for size in range(form[0]) for path in itertools.product(numbers, repeat=size)]
-    return sorted([path for path in tried if chained(form, kind, other, path)], key=lambda path: (len(path), path))
-
-
-class IsForm(unittest.TestCase):
+class IsForm(Asking):
     def check(self, form, told):
-        with self.subTest(form=form):
-            before = copy.deepcopy(form)
-            self.assertIs(is_form(form), told)
-            self.assertEqual(form, before)
+        self.ask_whether(told, is_form, form)
 
     def test_ordinary_forms(self):
         self.check((2, ((0, 1),)), True)
@@ -230,7 +210,7 @@ class Paths(unittest.TestCase):
 class Interface(unittest.TestCase):
     def test_names_of_the_arguments(self):
         for asked, names in ((is_form, ["form"]), (end_of, ["form", "kind", "path"]), (paths, ["form", "kind", "other"])):
-            self.assertEqual(list(inspect.signature(asked).parameters), names)
+            self.assertEqual(names_of_arguments(asked), names)
 
 
 if __name__ == "__main__":

@@ -70,6 +70,10 @@ def faults_of_node(node):
         yield "more than one target"
     if isinstance(node, ast.Try) and node.finalbody:
         yield "finally"
+    if isinstance(node, ast.BinOp) and isinstance(node.op, ast.Pow) and not isinstance(node.right, ast.Constant):
+        yield "an exponent that is not written out"
+    if isinstance(node, ast.Compare):
+        yield from faults_of_comparison(node)
     if isinstance(node, ast.Attribute) and node.attr in OTHER_METHODS:
         yield f"method {node.attr}"
     yield from faults_of_name(node)
@@ -95,9 +99,32 @@ def faults_of_name(node):
         yield f"name {node.id}"
 
 
+def faults_of_comparison(node):
+    for operator, compared in zip(node.ops, node.comparators):
+        plain = isinstance(compared, ast.Constant) and (compared.value is None or isinstance(compared.value, bool))
+        if isinstance(operator, (ast.Is, ast.IsNot)) and not plain:
+            yield "is beside another value than None, True or False"
+
+
+def faults_of_scope(tree):
+    """Parameters and locals that are called like an import, a class or a function of their file."""
+    taken = [alias.name for node in tree.body if isinstance(node, ast.ImportFrom) for alias in node.names]
+    taken += [node.name for node in tree.body if isinstance(node, (ast.ClassDef, ast.FunctionDef))]
+    for function in tree.body:
+        if isinstance(function, ast.FunctionDef):
+            bound = [node.arg for node in ast.walk(function) if isinstance(node, ast.arg)]
+            bound += [
+                node.id for node in ast.walk(function) if isinstance(node, ast.Name) and isinstance(node.ctx, ast.Store)
+            ]
+            for name in bound:
+                if name in taken:
+                    yield f"def {function.name}: the name {name} is taken"
+
+
 def faults_of(text):
-    found = list(faults_of_lines(text))
-    for node in ast.walk(ast.parse(text)):
+    tree = ast.parse(text)
+    found = list(faults_of_lines(text)) + list(faults_of_scope(tree))
+    for node in ast.walk(tree):
         found.extend(f"line {getattr(node, 'lineno', 0)}: {fault}" for fault in faults_of_node(node))
     return found
 
@@ -119,6 +146,8 @@ class Language(unittest.TestCase):
             "def f(*a):\n    pass\n", "def f(id):\n    pass\n", "x = {k: 1 for k in []}\n", "_x = 1\n", "# type\n",
             "x = [].sort()\n", "x = (k for k in [])\n", "x = [1 for a in [] for b in []]\n", "#\t\n", "assert True\n",
             "for x in []:\n    pass\nelse:\n    pass\n", "class A(B, C):\n    pass\n", "#" * 121 + "\n", "x = b''\n",
+            "x = 2 ** y\n", "x = y is z\n", "def f():\n    g = 1\n\n\ndef g():\n    pass\n",
+            "from formshift.a import b\n\n\ndef f(b):\n    pass\n",
         )
         for text in wrong:
             with self.subTest(text=text):
