@@ -7,28 +7,10 @@ from formshift.back import map_back, taken_back
 from formshift.books import is_book
 from formshift.maps import is_map, maps, sent
 from formshift.shifts import joined, own_shift
-from helping import Asking, all_books, all_shifts, names_of_arguments
-
-POINT = (1, ())
-TWO = (2, ())
-ARROW = (2, ((0, 1),))
-PAIR = (2, ((0, 1), (0, 1)))
-CHAIN = (3, ((0, 1), (1, 2)))
-TRIANGLE = (3, ((1, 2), (0, 2), (0, 1)))
-LINE = (4, ((0, 1), (1, 2), (2, 3)))
-FORMS = (POINT, TWO, ARROW, PAIR, CHAIN, TRIANGLE, LINE)
-
-CHAIN_BOOK = ((3, 2, 4), ((1, 0, 1), (3, 2)))
-TRIANGLE_BOOK = ((2, 3, 4), ((3, 0, 2), (1, 3), (2, 0)))
-LINE_BOOK = ((2, 3, 2, 4), ((2, 0), (1, 0, 0), (3, 1)))
-BIGGER = {
-    POINT: ((5,), ()), TWO: ((4, 2), ()), ARROW: ((3, 2), ((1, 0, 1),)), PAIR: ((3, 2), ((1, 0, 1), (0, 0, 1))),
-    CHAIN: CHAIN_BOOK, TRIANGLE: TRIANGLE_BOOK, LINE: LINE_BOOK,
-}
-
-
-def books_of(form):
-    return list(all_books(form, 1)) + [BIGGER[form]]
+from helping import (
+    ARROW, BIGGER, CHAIN, CHAIN_BOOK, FORMS, LINE, LINE_BOOK, PAIR, POINT, TRIANGLE, TRIANGLE_BOOK, TWO, Asking,
+    all_shifts, books_of, names_of_arguments,
+)
 
 
 def by_hand(source, shift, book):

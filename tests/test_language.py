@@ -24,6 +24,8 @@ METHODS = """append clear copy count endswith extend find get index insert isaln
 items join keys ljust lower lstrip partition pop remove replace reverse rfind rjust rpartition rsplit rstrip setdefault
 split splitlines startswith strip update upper values zfill bit_length""".split()
 
+WALKERS = "list tuple dict sorted sum any all enumerate zip min max".split()
+
 # An object's own methods and values may be called as they like, but not by these names of Python's own.
 OTHER_METHODS = set().union(*[dir(kind) for kind in (str, int, list, tuple, dict, set, bytes)]) - set(METHODS)
 OTHER_METHODS -= {"add", "discard", "title", "__init__"}
@@ -74,6 +76,8 @@ def faults_of_node(node):
         yield "an exponent that is not written out"
     if isinstance(node, ast.Compare):
         yield from faults_of_comparison(node)
+    if isinstance(node, ast.FormattedValue) and (node.format_spec or not isinstance(node.value, ast.Name)):
+        yield "more than a name within an f-string's braces"
     if isinstance(node, ast.Attribute) and node.attr in OTHER_METHODS:
         yield f"method {node.attr}"
     yield from faults_of_name(node)
@@ -106,6 +110,26 @@ def faults_of_comparison(node):
             yield "is beside another value than None, True or False"
 
 
+def is_walk(node):
+    """Whether a call gives what is to be walked on the spot."""
+    if not isinstance(node, ast.Call):
+        return False
+    if isinstance(node.func, ast.Attribute):
+        return node.func.attr in ("items", "keys", "values")
+    return isinstance(node.func, ast.Name) and node.func.id in ("zip", "enumerate", "reversed", "range")
+
+
+def faults_of_walks(tree):
+    """Walks that stand elsewhere than behind the in of a loop or first in a call that walks them at once."""
+    walked = [node.iter for node in ast.walk(tree) if isinstance(node, (ast.For, ast.comprehension))]
+    for node in ast.walk(tree):
+        if isinstance(node, ast.Call) and isinstance(node.func, ast.Name) and node.func.id in WALKERS:
+            walked.extend(node.args[:1])
+    for node in ast.walk(tree):
+        if is_walk(node) and node not in walked:
+            yield f"line {node.lineno}: not walked on the spot"
+
+
 def faults_of_scope(tree):
     """Parameters and locals that are called like an import, a class or a function of their file."""
     taken = [alias.name for node in tree.body if isinstance(node, ast.ImportFrom) for alias in node.names]
@@ -123,7 +147,7 @@ def faults_of_scope(tree):
 
 def faults_of(text):
     tree = ast.parse(text)
-    found = list(faults_of_lines(text)) + list(faults_of_scope(tree))
+    found = list(faults_of_lines(text)) + list(faults_of_scope(tree)) + list(faults_of_walks(tree))
     for node in ast.walk(tree):
         found.extend(f"line {getattr(node, 'lineno', 0)}: {fault}" for fault in faults_of_node(node))
     return found
@@ -147,7 +171,8 @@ class Language(unittest.TestCase):
             "x = [].sort()\n", "x = (k for k in [])\n", "x = [1 for a in [] for b in []]\n", "#\t\n", "assert True\n",
             "for x in []:\n    pass\nelse:\n    pass\n", "class A(B, C):\n    pass\n", "#" * 121 + "\n", "x = b''\n",
             "x = 2 ** y\n", "x = y is z\n", "def f():\n    g = 1\n\n\ndef g():\n    pass\n",
-            "from formshift.a import b\n\n\ndef f(b):\n    pass\n",
+            "from formshift.a import b\n\n\ndef f(b):\n    pass\n", "x = f'{y[0]}'\n", "x = f'{y:3}'\n",
+            "x = range(3)\n", "x = dict(zip(y, range(3)))\n", "x = y.items()\n",
         )
         for text in wrong:
             with self.subTest(text=text):

@@ -4,17 +4,11 @@ import itertools
 import unittest
 
 from formshift.shifts import is_shift, joined, own_shift
-from helping import Asking, all_paths, all_shifts, changed, names_of_arguments
+from helping import (
+    ARROW, CHAIN, FORMS, LINE, PAIR, POINT, TRIANGLE, TWO, Asking, all_paths, all_shifts, changed, names_of_arguments,
+)
 
-POINT = (1, ())
-TWO = (2, ())
-ARROW = (2, ((0, 1),))
-PAIR = (2, ((0, 1), (0, 1)))
-CHAIN = (3, ((0, 1), (1, 2)))
-TRIANGLE = (3, ((1, 2), (0, 2), (0, 1)))
-LINE = (4, ((0, 1), (1, 2), (2, 3)))
 MIXED = (4, ((2, 3), (0, 1), (1, 3), (0, 3), (1, 2)))
-FORMS = (POINT, TWO, ARROW, PAIR, CHAIN, TRIANGLE, LINE)
 BEYOND = (6, ((0, 1), (1, 2), (2, 3), (3, 4), (4, 5), (0, 5), (0, 5)))
 
 
